@@ -24,3 +24,15 @@ TAKEN = 3
 # Effects lie flat, two numbers each, so that those of several calls can be joined.
 def done(effects):
     return [DONE, len(effects) // 2] + effects
+
+
+def with_length(numbers):
+    return [len(numbers)] + numbers
+
+
+# What is kept by id is told by rising ids, two numbers each.
+def told_by_id(numbers):
+    answer = [len(numbers)]
+    for x in sorted(numbers):
+        answer.extend([x, numbers[x]])
+    return answer

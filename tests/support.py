@@ -71,6 +71,63 @@ def dry(*rows):
     return call(13, [], rows)
 
 
+def holder(f):
+    return call(14, [f])
+
+
+def place(x):
+    return call(15, [x])
+
+
+def halted():
+    return call(16)
+
+
+def storage(s):
+    return call(17, [s])
+
+
+def told():
+    return call(18)
+
+
+def load(facilities=(), storages=()):
+    return call(19, [], [facilities, storages])
+
+
+def clear():
+    return call(20)
+
+
+def dead(*wishes):
+    return call(21, [], [joined(wishes)])
+
+
+def ring(*wishes):
+    return call(22, [], [joined(wishes)])
+
+
+def inherit(*wishes):
+    return call(23, [], [joined(wishes)])
+
+
+def safe(s, *claims):
+    return call(24, [s], [joined(claims)])
+
+
+def idle():
+    return call(25)
+
+
+def counts():
+    return call(26)
+
+
+def part(f, shut, *entries):
+    """A facility's part of a list for load, of its entries."""
+    return [f, shut, len(entries), *joined(entries)]
+
+
 def joined(calls):
     return [number for each in calls for number in each]
 
@@ -118,6 +175,12 @@ def lines_after(*calls):
 
 def storage_after(s, *calls):
     return state_after(*calls)[1].get(s, (0, 0, 0))
+
+
+def told_lists(answer):
+    """The facilities' and the storages' list of what told answers."""
+    length = answer[0]
+    return answer[1:1 + length], answer[2 + length:]
 
 
 class Checks:

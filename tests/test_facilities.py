@@ -3,7 +3,7 @@
 import unittest
 
 from tests.support import (
-    Checks, back, gate, last, lines_after, preempt, purge, release, run, seize, state_after, together,
+    Checks, back, gate, last, lines_after, load, part, preempt, purge, release, run, seize, state_after, together,
 )
 
 
@@ -118,14 +118,12 @@ class Preempt(Checks, unittest.TestCase):
 class PreemptFullLine(Checks, unittest.TestCase):
     def setUp(self):
         # The ids are 1 to 1001, so that 1000 of them are displaced in the end.
-        entries = [[1, 63, p + 501, p, 1, 1] for p in range(-500, 501)]
-        self.almost = [together(*entries[at:at + 100]) for at in range(0, 1000, 100)]
+        self.almost = [load(part(63, 0, *[[p + 501, 1, p] for p in range(499, -501, -1)]))]
         self.full = self.almost + [preempt(63, 1001, 500, 1, 1)]
 
     def test_the_thousandth_is_let_and_the_next_is_not(self):
-        answers = run(*self.full)
-        self.assertEqual(answers[0], [0, 99] + [n for x in range(1, 100) for n in (0, x)])
-        self.assertEqual(answers[-1], [0, 1, 0, 1000])
+        self.assertEqual(len(lines_after(*self.almost)[63]), 1000)
+        self.assertEqual(run(*self.full), [[0, 0], [0, 1, 0, 1000]])
         self.assertEqual(len(lines_after(*self.full)[63]), 1001)
         self.assert_changes_nothing([-5], self.full, preempt(63, 2000, 501, 1, 1))
 

@@ -2,7 +2,9 @@
 
 import unittest
 
-from tests.support import FAR, Checks, call, gate, last, preempt, room, seize
+from tests.support import (
+    FAR, MOST_ID, Checks, call, enter, gate, holder, last, place, preempt, room, run, safe, seize, storage,
+)
 
 F = S = (0, 63)
 X = (1, 1000000000)
@@ -25,6 +27,19 @@ TOLD = {
     11: ((S, K), 0),
     12: ((), None),
     13: ((), None),
+    14: ((F,), 0),
+    15: ((X,), 0),
+    16: ((), 0),
+    17: ((S,), 0),
+    18: ((), 0),
+    19: ((), 2),
+    20: ((), 0),
+    21: ((), 1),
+    22: ((), 1),
+    23: ((), 1),
+    24: ((S,), 1),
+    25: ((), 0),
+    26: ((), 0),
 }
 
 SETUP = [seize(0, 1), preempt(0, 2), gate(1, 1), room(1, 5)]
@@ -60,6 +75,18 @@ class NoCall(Checks, unittest.TestCase):
             for rows in ([], [[]], [[4, 0, 1]], [[4, 0, 1]] * 199):
                 self.assert_changes_nothing([-9], SETUP, call(place, [0], rows))
 
+    def test_asked_before_the_lists_of_the_others(self):
+        for place, lists in ((19, 2), (21, 1), (22, 1), (23, 1)):
+            for row in ([], [3], [FAR] * 4):
+                self.assert_changes_nothing([-9], SETUP, call(place, [0], [row] * lists))
+        for numbers in ([], [0, 0], [64, 0], [FAR] * 19):
+            self.assert_changes_nothing([-9], SETUP, call(24, numbers, [[]]))
+
+    def test_every_place_has_a_form(self):
+        self.assertEqual(list(TOLD), list(range(27)))
+        for place, (ranges, lists) in TOLD.items():
+            self.assertNotEqual(last(call(place, [high for low, high in ranges], [[]] * (lists or 0))), [-9], place)
+
 
 class Ranges(Checks, unittest.TestCase):
     def edges(self):
@@ -94,6 +121,19 @@ class Ranges(Checks, unittest.TestCase):
         self.assert_changes_nothing([-1], SETUP, preempt(0, 1, 0, 0, 2))
         self.assert_changes_nothing([-1], SETUP, preempt(0, 2, 0, 2, 0))
         self.assert_changes_nothing([-1], SETUP, preempt(1, 9, -1001, 0, 0))
+
+    def test_of_questions(self):
+        self.assertEqual(run(*[holder(f) for f in (-1, 0, 63, 64)]), [[-1], [0, 0], [0, 0], [-1]])
+        self.assertEqual(run(*[place(x) for x in (0, 1, MOST_ID, MOST_ID + 1)]), [[-1], [0, 0], [0, 0], [-1]])
+        self.assertEqual(run(*[storage(s) for s in (-1, 0, 63, 64)]), [[-1], [0, 0, 0], [0, 0, 0], [-1]])
+        self.assertEqual(run(*[safe(s) for s in (-1, 0, 63, 64)]), [[-1], [0, 0], [0, 0], [-1]])
+
+    def test_of_safe_before_its_claims(self):
+        setup = SETUP + [enter(1, 2)]
+        for s in (-1, 64, FAR, -FAR):
+            self.assert_changes_nothing([-1], setup, call(24, [s], [[5]]))
+            self.assert_changes_nothing([-1], setup, safe(s, [5, 0, 0], [5, 0, 0]))
+            self.assert_changes_nothing([-1], setup, safe(s, [5, 3, 3]))
 
 
 if __name__ == "__main__":

@@ -80,6 +80,58 @@ class Language(unittest.TestCase):
             if isinstance(node, ast.BinOp):
                 self.assertNotIsInstance(node.op, (ast.Div, ast.MatMult), where)
 
+    def test_forms_of_statements_and_expressions(self):
+        for where, node in self.nodes():
+            if isinstance(node, ast.Assign):
+                self.assertIsInstance(node.targets[0], (ast.Name, ast.Attribute, ast.Subscript), where)
+            if isinstance(node, ast.ListComp):
+                self.assertEqual(len(node.generators), 1, where)
+                self.assertLessEqual(len(node.generators[0].ifs), 1, where)
+            if isinstance(node, ast.Compare):
+                self.assertFalse(any(isinstance(sign, (ast.Is, ast.IsNot)) for sign in node.ops), where)
+            if isinstance(node, ast.Call):
+                self.assertEqual(node.keywords, [], where)
+            if isinstance(node, ast.arguments):
+                self.assertEqual((node.vararg, node.kwarg, node.kwonlyargs, node.posonlyargs), (None, None, [], []))
+
+    def test_each_name_once_at_the_top(self):
+        for name, tree in self.trees.items():
+            tops = [alias.name for node in tree.body if isinstance(node, ast.ImportFrom) for alias in node.names]
+            for node in tree.body:
+                if isinstance(node, ast.Assign):
+                    tops.append(node.targets[0].id)
+                elif isinstance(node, (ast.FunctionDef, ast.ClassDef)):
+                    tops.append(node.name)
+            self.assertEqual(len(tops), len(set(tops)), name)
+
+    def test_what_is_walked_at_once(self):
+        """zip and their like stand behind an in, sets within len or sorted; neither is kept."""
+        walked, within = set(), set()
+        for where, node in self.nodes():
+            if isinstance(node, (ast.For, ast.comprehension)):
+                walked.add(node.iter)
+            if isinstance(node, ast.Call) and isinstance(node.func, ast.Name) and node.func.id in ("len", "sorted"):
+                within.add(node.args[0])
+        for where, node in self.nodes():
+            if isinstance(node, ast.Call):
+                called = node.func.attr if isinstance(node.func, ast.Attribute) else node.func.id
+                if called in ("zip", "enumerate", "reversed", "range", "items", "keys", "values"):
+                    self.assertIn(node, walked, where)
+                if called in ("set", "frozenset"):
+                    self.assertIn(node, within, where)
+
+    def test_nothing_stands_idle(self):
+        """Each name of a file's top is used somewhere, and each import in its file."""
+        used = {name: {node.id for node in ast.walk(tree) if isinstance(node, ast.Name)}
+                for name, tree in self.trees.items()}
+        every = set().union(*used.values()) | {"answers"}
+        for name, tree in self.trees.items():
+            for node in tree.body:
+                if isinstance(node, ast.ImportFrom):
+                    self.assertLessEqual({alias.name for alias in node.names}, used[name], name)
+                elif isinstance(node, (ast.FunctionDef, ast.ClassDef)):
+                    self.assertIn(node.name, every, name)
+
     def test_only_calls_stand_by_themselves(self):
         for name, tree in self.trees.items():
             self.assertIsNotNone(ast.get_docstring(tree), name)
